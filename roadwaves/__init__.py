@@ -1,0 +1,1 @@
+"""Roadwaves: who stands where on a road, decided for all places and moments."""

@@ -1,0 +1,72 @@
+"""Rules of the language of this program that can be seen with little effort, over all files of the package."""
+
+import ast
+import unittest
+from pathlib import Path
+
+PACKAGE = Path(__file__).resolve().parent.parent / "roadwaves"
+LIBRARY = {
+    "math": {"gcd", "lcm", "isqrt", "comb", "perm", "factorial"},
+    "heapq": {"heappush", "heappop", "heapify", "heapreplace", "heappushpop"},
+    "itertools": {"product", "combinations", "permutations", "chain", "accumulate", "pairwise", "islice",
+                  "zip_longest"},
+    "collections": {"defaultdict"},
+    "__future__": {"annotations"},
+}
+BARRED = (ast.Global, ast.AsyncFunctionDef, ast.Await, ast.Div, ast.TryStar)
+
+
+def sources():
+    """The name, the text and the tree of each file of the package."""
+    found = []
+    for path in sorted(PACKAGE.rglob("*.py")):
+        text = path.read_text(encoding="utf-8")
+        found.append((path.name, text, ast.parse(text)))
+    return found
+
+
+class Language(unittest.TestCase):
+    def test_there_are_files(self):
+        self.assertIn("kinds.py", [name for name, _, _ in sources()])
+
+    def test_files(self):
+        for path in PACKAGE.rglob("*"):
+            if "__pycache__" not in path.parts and path.is_file():
+                with self.subTest(path=path):
+                    self.assertEqual(".py", path.suffix)
+                    self.assertRegex(path.stem, "^[a-z_][a-z0-9_]*$")
+
+    def test_sizes_and_signs(self):
+        for name, text, tree in sources():
+            with self.subTest(name=name):
+                lines = text.split("\n")
+                self.assertLessEqual(len(lines), 400)
+                self.assertLessEqual(max(map(len, lines)), 120)
+                self.assertTrue(all(" " <= sign <= "~" for line in lines for sign in line))
+                for node in ast.walk(tree):
+                    if isinstance(node, ast.FunctionDef):
+                        self.assertLessEqual(node.end_lineno - node.lineno + 1, 40, node.name)
+
+    def test_imports(self):
+        for name, _, tree in sources():
+            for node in ast.walk(tree):
+                if isinstance(node, ast.ImportFrom):
+                    with self.subTest(name=name, line=node.lineno):
+                        self.assertEqual(0, node.level)
+                        self.assertIn(node, tree.body)
+                        told = {alias.name for alias in node.names}
+                        own = node.module.startswith("roadwaves.") and "*" not in told
+                        self.assertTrue(own or told <= LIBRARY.get(node.module, set()))
+                elif isinstance(node, ast.Import):
+                    self.assertEqual(("__main__.py", ["sys"]), (name, [alias.name for alias in node.names]))
+
+    def test_no_floats_and_barred_statements(self):
+        for name, _, tree in sources():
+            for node in ast.walk(tree):
+                with self.subTest(name=name, line=getattr(node, "lineno", None)):
+                    self.assertNotIsInstance(node, BARRED)
+                    self.assertNotIsInstance(getattr(node, "value", None), (float, complex))
+
+
+if __name__ == "__main__":
+    unittest.main()
