@@ -104,3 +104,52 @@ def merged(first, second):
         if second[by] == following:
             by += 1
     return found + first[at:] + second[by:]
+
+
+def is_amount(value):
+    """Whether a value is a fraction above 0."""
+    return is_fraction(value) and value[0] > 0
+
+
+def is_between(fraction, low, high):
+    """Whether a fraction is from low up to high."""
+    return is_at_most(low, fraction) and is_at_most(fraction, high)
+
+
+def halfway(one, other):
+    """The fraction in the middle between two."""
+    return reduced(one[0] * other[1] + other[0] * one[1], 2 * one[1] * other[1])
+
+
+def total_of(fractions):
+    """The sum of a list of fractions."""
+    found = ZERO
+    for fraction in fractions:
+        found = plus(found, fraction)
+    return found
+
+
+def least(fractions):
+    """The least one of a list of fractions that is not empty."""
+    found = fractions[0]
+    for fraction in fractions:
+        found = lesser(found, fraction)
+    return found
+
+
+def ascending_of(fractions):
+    """The fractions of a list in ascending order; what stands in it several times stands in the new one once."""
+    if len(fractions) < 2:
+        return list(fractions)
+    middle = len(fractions) // 2
+    return merged(ascending_of(fractions[:middle]), ascending_of(fractions[middle:]))
+
+
+def floor_of(fraction):
+    """The greatest whole number that is not above a fraction."""
+    return fraction[0] // fraction[1]
+
+
+def ceiling_of(fraction):
+    """The least whole number that is not below a fraction."""
+    return -(-fraction[0] // fraction[1])
