@@ -108,7 +108,7 @@ def indexes_left(kind, dx, dt, many):
     """The indexes of the places all of whose cars surely come from within a row of so many places."""
     speeds = slopes_of(kind)
     share = over(dt, dx)
-    return range(ceiling_of(times(speeds[0], share)), many + floor_of(times(speeds[-1], share)))
+    return list(range(ceiling_of(times(speeds[0], share)), many + floor_of(times(speeds[-1], share))))
 
 
 def check_cells(kind, dx, dt):

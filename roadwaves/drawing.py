@@ -4,7 +4,7 @@ It is made by following all fronts, in order of time: wherever some meet, a bar 
 begin, new ones go out, as the densities on both sides ask for.
 """
 
-from roadwaves.lines import height_at, last_corner_up_to, slope_between
+from roadwaves.lines import height_at, last_corner_up_to, leading, slope_between
 from roadwaves.rationals import ZERO, ascending_of, greatest, is_at_most, is_below, lesser, minus, over, plus, times
 from roadwaves.scene_parts import arrivals_line, start_line, tracks_of
 from roadwaves.waves import density_coming, flow_of_density, flow_past, waves_at_bar, waves_between
@@ -160,7 +160,7 @@ class Drawing:
 
     def row_at(self, moment):
         """The paths that are there just behind a moment, in order of places."""
-        return self.rows[turns_up_to(self.moments, moment) - 1]
+        return self.rows[leading(self.moments, lambda turn: is_at_most(turn, moment)) - 1]
 
     def sides_at(self, place, moment):
         """The densities behind and ahead of a place just behind a moment that is no turning one."""
@@ -202,38 +202,12 @@ def first_paths(kind, beginning, starts):
 
 def paths_behind(paths, place, moment):
     """How many of some paths, in order of places, are behind a place at a moment."""
-    low, high = 0, len(paths)
-    while low < high:
-        middle = (low + high) // 2
-        if is_below(paths[middle].place_at(moment), place):
-            low = middle + 1
-        else:
-            high = middle
-    return low
+    return leading(paths, lambda path: is_below(path.place_at(moment), place))
 
 
 def paths_up_to(paths, place, moment):
     """How many of some paths, in order of places, are behind a place or at it at a moment."""
-    low, high = 0, len(paths)
-    while low < high:
-        middle = (low + high) // 2
-        if is_at_most(paths[middle].place_at(moment), place):
-            low = middle + 1
-        else:
-            high = middle
-    return low
-
-
-def turns_up_to(moments, moment):
-    """How many of some ascending moments are not behind a moment."""
-    low, high = 0, len(moments)
-    while low < high:
-        middle = (low + high) // 2
-        if is_at_most(moments[middle], moment):
-            low = middle + 1
-        else:
-            high = middle
-    return low
+    return leading(paths, lambda path: is_at_most(path.place_at(moment), place))
 
 
 def meeting_of(path, following):

@@ -6,7 +6,7 @@ cheaper than both as one, a least way has between its rides just one step each. 
 how cheaply each bar can be come to by such steps, and a number is the least over these and over all starts.
 """
 
-from roadwaves.lines import height_at, slopes_of
+from roadwaves.lines import height_at, leading, slopes_of
 from roadwaves.rationals import ZERO, ascending_of, greatest, is_at_most, is_below, is_between, minus, over, plus
 from roadwaves.rationals import times
 from roadwaves.scene_parts import arrivals_line, start_line, tracks_of
@@ -105,14 +105,7 @@ def add_entry(entries, moment, level, way):
 
 def entries_up_to(entries, moment):
     """How many entries are not behind a moment."""
-    low, high = 0, len(entries)
-    while low < high:
-        middle = (low + high) // 2
-        if is_at_most(entries[middle].moment, moment):
-            low = middle + 1
-        else:
-            high = middle
-    return low
+    return leading(entries, lambda entry: is_at_most(entry.moment, moment))
 
 
 def least_way(finder, place, moment):

@@ -21,16 +21,21 @@ def slopes_of(line):
     return [slope_between(corner, following) for corner, following in zip(line, line[1:])]
 
 
-def last_corner_up_to(line, x):
-    """The index of the last corner of a line whose x is not above the one given."""
-    low, high = 0, len(line) - 1
+def leading(rows, holds):
+    """How many rows in front there are for which a test holds; behind them it holds for none."""
+    low, high = 0, len(rows)
     while low < high:
-        middle = (low + high + 1) // 2
-        if is_at_most(line[middle][0], x):
-            low = middle
+        middle = (low + high) // 2
+        if holds(rows[middle]):
+            low = middle + 1
         else:
-            high = middle - 1
+            high = middle
     return low
+
+
+def last_corner_up_to(line, x):
+    """The index of the last corner of a line whose x is not above the one given, or 0."""
+    return max(leading(line, lambda corner: is_at_most(corner[0], x)) - 1, 0)
 
 
 def height_at(line, x):

@@ -1,9 +1,8 @@
 """Sections through the drawing of a scene: along a moment, along a place, and along what moves with one speed."""
 
 from roadwaves.counts import counts_through
-from roadwaves.lines import bends_of
-from roadwaves.rationals import ZERO, ascending_of, halfway, is_at_most, is_below, is_between, lesser, minus, over, plus
-from roadwaves.rationals import times
+from roadwaves.lines import bends_of, leading
+from roadwaves.rationals import ZERO, ascending_of, halfway, is_at_most, minus, over, plus, times
 from roadwaves.waves import flow_of_density, flow_past
 
 ONE = (1, 1)
@@ -101,14 +100,8 @@ def moments_of_car(drawing, car):
 def greatest_place(drawing, car, moment):
     """The greatest place at which the number at a moment is at least a car's, if there is any."""
     row = drawing.row_at(moment)
-    low, high = 0, len(row)
-    while low < high:
-        middle = (low + high) // 2
-        if is_at_most(car, row[middle].number_when(moment)):
-            low = middle + 1
-        else:
-            high = middle
-    if low == len(row):
+    many = leading(row, lambda path: is_at_most(car, path.number_when(moment)))
+    if many == len(row):
         return drawing.length
-    path = row[low - 1]
+    path = row[many - 1]
     return plus(path.place_at(moment), over(minus(path.number_when(moment), car), path.ahead))

@@ -4,7 +4,7 @@ from fractions import Fraction
 
 from roadwaves.errors import InvalidBars
 from roadwaves.scenes import scene_of
-from tests.support import number, pair, random_fraction, random_kind, raised_by
+from tests.support import number, pair, raised_by, random_fraction, random_kind, random_source
 
 ZERO = (0, 1)
 
@@ -216,3 +216,56 @@ def random_point(source, scene):
         moment = since + (end - since) * Fraction(source.randint(0, 4), 4)
         place = begin + speed * (moment - since)
     return pair(place), pair(moment)
+
+
+HALF, ONE, TWO, THREE, FOUR, FIVE, SIX = (1, 2), (1, 1), (2, 1), (3, 1), (4, 1), (5, 1), (6, 1)
+ROAD = ((ZERO, ZERO), (ONE, ONE), (THREE, ZERO))
+# A level top from 2 to 3, and a bend on either side.
+LEVEL = ((ZERO, ZERO), (ONE, TWO), (TWO, THREE), (THREE, THREE), (FOUR, TWO), ((9, 2), ZERO))
+RED = (ONE, ONE, ZERO, TWO, ZERO)
+STOP = (TWO, ONE, ZERO, TWO, ZERO)
+EMPTY, COMING = ((TWO, ZERO),), (ZERO, ((FOUR, HALF),))
+
+# The scenes of the document's examples.
+LIGHT = (ROAD, TWO, EMPTY, COMING, (RED,))
+LEADER = (ROAD, TWO, EMPTY, COMING, ((ZERO, ZERO, HALF, FOUR, ZERO),))
+CROWD = (ROAD, TWO, EMPTY, (TWO, ()), ())
+STREET = (ROAD, FOUR, ((FOUR, HALF),), (ZERO, ((SIX, HALF),)), (STOP,))
+NARROW = (ROAD, FOUR, ((FOUR, ZERO),), (TWO, ()), ((TWO, ZERO, ZERO, (8, 1), HALF),))
+
+STANDING = ((ONE, THREE), (ONE, ZERO), (TWO, HALF))
+SOME_SCENES = [
+    LIGHT, LEADER, CROWD, STREET, NARROW,
+    # No car at all, and none but those who stand at the end.
+    (ROAD, TWO, EMPTY, (ZERO, ()), ()),
+    (ROAD, TWO, EMPTY, (ZERO, ((ONE, ZERO), (TWO, ZERO))), (RED,)),
+    (ROAD, TWO, ((ONE, ZERO), (ONE, THREE)), (ZERO, ()), ()),
+    # Red lights where cars come in and where they go out, from the moment 0 on and later.
+    (ROAD, TWO, EMPTY, (ONE, ((FOUR, TWO),)), ((ZERO, ZERO, ZERO, TWO, ZERO), (TWO, ONE, ZERO, THREE, HALF))),
+    (ROAD, TWO, ((TWO, TWO),), COMING, ((ZERO, ONE, ZERO, TWO, ZERO), (TWO, ZERO, ZERO, THREE, ZERO))),
+    # A leader who goes from the start of the road just up to its end, and one behind the other.
+    (ROAD, TWO, EMPTY, (ONE, ((FOUR, ONE),)), ((ZERO, ONE, HALF, FOUR, (1, 4)),)),
+    (ROAD, FOUR, STANDING, COMING, ((ZERO, ZERO, (2, 3), THREE, ZERO), (ZERO, ONE, (1, 3), SIX, (1, 3)))),
+    # Bars that begin where others end: a leader who stops and goes on, and two narrow places of one place.
+    (ROAD, FOUR, ((FOUR, HALF),), (ZERO, ((SIX, ONE),)),
+     ((ZERO, ZERO, HALF, TWO, ZERO), (ONE, TWO, ZERO, ONE, ZERO), (ONE, THREE, HALF, TWO, (1, 4)))),
+    (ROAD, FOUR, ((FOUR, HALF),), (ZERO, ((SIX, ONE),)), ((TWO, ZERO, ZERO, TWO, HALF), (TWO, TWO, ZERO, TWO, (1, 4)))),
+    # Jams at the beginning, with and without comings, and bars within the jam.
+    (ROAD, FOUR, STANDING, (TWO, ((ONE, ZERO), (TWO, TWO))), ()),
+    (ROAD, FOUR, ((FOUR, THREE),), (THREE, ()), ((THREE, ONE, ZERO, TWO, (1, 3)), (ONE, HALF, ZERO, THREE, (2, 3)))),
+    (ROAD, FOUR, ((TWO, TWO), (TWO, (5, 2))), COMING, ((ONE, ZERO, (1, 4), SIX, (1, 8)),)),
+    # Densities of a level top, at which fronts stand.
+    (LEVEL, FOUR, ((ONE, TWO), (ONE, THREE), (TWO, (5, 2))), (ONE, ((TWO, THREE), (ONE, ONE))), ()),
+    (LEVEL, FOUR, ((TWO, FOUR), (TWO, (9, 2))), (ZERO, ((FOUR, FOUR),)), ((THREE, ONE, ZERO, ONE, ONE),)),
+    (LEVEL, SIX, ((SIX, ONE),), (ZERO, ((FOUR, TWO),)),
+     ((THREE, ONE, ZERO, TWO, ZERO), (ONE, TWO, ZERO, ONE, ZERO), (FIVE, ZERO, ZERO, FIVE, ONE))),
+    # A bar that does not bite, and one that moves with a speed of the kind.
+    (ROAD, FOUR, ((FOUR, HALF),), (ZERO, ((SIX, ONE),)), ((ONE, ZERO, ZERO, SIX, ONE), (TWO, ONE, ZERO, TWO, HALF))),
+    (LEVEL, FOUR, ((FOUR, ONE),), (ZERO, ((TWO, TWO),)), ((ONE, ZERO, ONE, TWO, HALF), (ZERO, HALF, ONE, TWO, ZERO))),
+]
+
+
+def some_scenes(seed, many):
+    """The scenes by hand, and so many random ones with no, one, two and three bars."""
+    source = random_source(seed)
+    return SOME_SCENES + [random_scene(source, at % 4) for at in range(many)]

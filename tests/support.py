@@ -5,6 +5,11 @@ from inspect import signature
 from itertools import product
 from random import Random
 
+from roadwaves.errors import InvalidBars, InvalidBeginning, InvalidComings, InvalidRow
+
+# These errors tell an index in the place of what was given; None for a list, which is no tuple.
+INDEXED = (InvalidBars, InvalidBeginning, InvalidComings, InvalidRow)
+
 
 def nested(depth):
     """A tuple nested so deep."""
@@ -47,6 +52,13 @@ def check_refused(test, error, given, call, *values, **named):
     test.assertIs(given, found.given)
 
 
+def check_refused_at(test, error, index, call, *values, **named):
+    """A call has to raise just this class of errors, with this `index`."""
+    found = raised_by(call, *values, **named)
+    test.assertIs(error, found.__class__)
+    test.assertEqual(index, found.index)
+
+
 def check_wrong_values(test, call, values, at, error, wrong):
     """A call has to refuse each wrong value in one place, by position and by name."""
     names = list(signature(call).parameters)
@@ -69,8 +81,12 @@ def check_order(test, call, values, errors):
         first = marks.index(True)
         named = dict(reversed(list(zip(names, passed))))
         with test.subTest(call=call.__name__, marks=marks):
-            check_refused(test, errors[first], passed[first], call, *passed)
-            check_refused(test, errors[first], passed[first], call, **named)
+            if issubclass(errors[first], INDEXED):
+                check_refused_at(test, errors[first], None, call, *passed)
+                check_refused_at(test, errors[first], None, call, **named)
+            else:
+                check_refused(test, errors[first], passed[first], call, *passed)
+                check_refused(test, errors[first], passed[first], call, **named)
 
 
 def number(fraction):
