@@ -15,6 +15,60 @@ KINDS = """
 [(((0, 1), (0, 1)), ((2, 1), (2, 1)), ((6, 1), (0, 1))), (((0, 1), (0, 1)), ((3, 2), (3, 4)), ((3, 1), (0, 1)))]
 """
 
+SCENES = """
+>>> from roadwaves.pictures import counts_at, fronts, picture, seen_from, states_at
+>>> from roadwaves.scenes import all_cars, begun_anew, comings_number, is_scene, scene_of, start_number
+>>> from roadwaves.ways import number_at, on_road, waiting_at, way_number, way_to
+>>> empty, coming, red = ((two, zero),), (zero, ((four, half),)), (one, one, zero, two, zero)
+>>> light = scene_of(road, two, empty, coming, (red,))
+>>> [is_scene(light), light[4] == (red,), all_cars(light), comings_number(light, three), start_number(light, one)]
+[True, True, (2, 1), (3, 2), (0, 1)]
+>>> [number_at(light, one, three), number_at(light, one, four), number_at(light, (1, 3), (13, 3)), number_at(light, two, (6, 1)), on_road(light, three)]
+[(0, 1), (1, 1), (2, 1), (2, 1), (3, 2)]
+>>> way = (("start", zero, zero), ("step", one, one), ("ride", one, three), ("step", one, four))
+>>> [way_number(light, way), way_number(light, way_to(light, one, four)), way_number(light, (("start", zero, three), ("step", one, four)))]
+[(1, 1), (1, 1), (3, 2)]
+>>> [counts_at(light, one), picture(light, three)]
+[(((0, 1), (0, 1)), ((3, 1), (0, 1)), ((5, 1), (2, 1))), (((0, 1), (3, 5), (1, 2), (1, 2)), ((3, 5), (1, 1), (3, 1), (0, 1)), ((1, 1), (2, 1), (0, 1), (0, 1)))]
+>>> states_at(light, one)
+(((0, 1), (1, 1), (0, 1), (0, 1), (0, 1)), ((1, 1), (3, 1), (0, 1), (3, 1), (0, 1)), ((3, 1), (5, 1), (1, 1), (1, 1), (1, 1)), ((5, 1), None, (0, 1), (0, 1), (0, 1)))
+>>> [fronts(light, four), begun_anew(light, three)[2:]]
+[(((2, 5), (-1, 5)), ((1, 2), (-1, 2))), ((((3, 5), (1, 2)), ((2, 5), (3, 1)), ((1, 1), (0, 1))), ((0, 1), (((1, 1), (1, 2)),)), ())]
+>>> leader, crowd = scene_of(road, two, empty, coming, ((zero, zero, half, four, zero),)), scene_of(road, two, empty, (two, ()), ())
+>>> [number_at(leader, one, two), number_at(leader, one, three), number_at(leader, one, four), number_at(crowd, zero, one), waiting_at(crowd, one), seen_from(leader, zero, zero, half, two)]
+[(0, 1), (3, 4), (3, 2), (1, 1), (1, 1), (((0, 1), (0, 1)), ((2, 1), (0, 1)))]
+"""
+
+CARS = """
+>>> from roadwaves.cars import coming, course, last_out, passing, travel_time
+>>> stop = (two, one, zero, two, zero)
+>>> street = scene_of(road, four, ((four, half),), (zero, (((6, 1), half),)), (stop,))
+>>> [passing(street, (0, 1), (2, 1)), passing(street, (-1, 1), (1, 1)), coming(street, (1, 1)), travel_time(street, (0, 1)), last_out(street)]
+[(7, 2), (0, 1), (2, 1), (11, 2), (10, 1)]
+>>> course(street, (0, 1))
+(((0, 1), (0, 1)), ((11, 6), (11, 6)), ((10, 3), (11, 6)), ((11, 2), (4, 1)))
+>>> from roadwaves.jams import is_jammed, jam_reach, jammed_moments, jammed_places, last_jam
+>>> [jammed_places(street, (2, 1)), jammed_moments(street, (8, 5)), jammed_moments(street, (2, 1)), jammed_places(street, (5, 1)), last_jam(street), jam_reach(street)]
+[(((9, 5), (2, 1)),), (((3, 1), (19, 5)),), (((1, 1), (3, 1)),), (), (13, 3), (4, 3)]
+>>> narrow = (road, four, ((four, zero),), (two, ()), ((two, zero, zero, (8, 1), half),))
+>>> [jam_reach(narrow), last_jam(narrow), jammed_places(narrow, three)]
+[(4, 3), (6, 1), (((3, 2), (2, 1)),)]
+>>> from roadwaves.bars import bars_from, longest_bar, needless_bars, never_later, parting_view
+>>> shorter, slow = stop[:3] + (one, zero), stop[:4] + (one,)
+>>> [needless_bars(road, four, (stop,)), needless_bars(road, four, (slow,)), never_later(road, four, (shorter,), (stop,)), never_later(road, four, (stop,), (shorter,)), bars_from(road, four, (stop,), (2, 1)) == (((2, 1), (0, 1), (0, 1), (1, 1), (0, 1)),), parting_view(road, four, (shorter,), (stop,))]
+[(), (0,), True, False, True, None]
+>>> [longest_bar(street, 0, (10, 1), 10), longest_bar(street, 0, (9, 1), 10)]
+[20, None]
+>>> from roadwaves.compares import bare_density, never_less, parting_scene
+>>> wide = road[:2] + ((four, zero),)
+>>> [never_less(wide, road), never_less(road, wide), bare_density(wide, road), parting_scene(road, road, (4, 1))]
+[True, False, None, None]
+>>> from roadwaves.cells import cell_run, cell_step, cells_fit, true_step, unlike_row
+>>> evenly = ((0, 1), (-1, 1), (-2, 1), (-3, 1), (-4, 1))
+>>> [cells_fit(road, (1, 1), (2, 1)), cells_fit(road, (1, 1), (1, 1)), cell_step(road, (1, 1), (2, 1), evenly), true_step(road, (1, 1), (2, 1), evenly), cell_run(road, (1, 1), (2, 1), evenly, 2), unlike_row(road, (1, 1), (2, 1))]
+[True, False, ((0, 1), (-1, 1)), ((0, 1), (-1, 1)), (), None]
+"""
+
 COUNTS = """
 >>> from roadwaves.counts import are_never_above, area_between, counts_sum, greatest_counts, is_counts, later_counts, least_counts, number_of, when
 >>> late, even, flat = ((zero, zero), (two, zero), (four, one)), ((zero, zero), (four, one)), ((zero, half),)
@@ -40,8 +94,15 @@ class Examples(unittest.TestCase):
     def test_kinds(self):
         self.run_examples(KINDS)
 
+    # The following ones use the names that the examples ahead of them in the document have set.
+
+    def test_scenes_ways_and_pictures(self):
+        self.run_examples(KINDS + SCENES)
+
+    def test_cars_jams_bars_kinds_compared_and_cells(self):
+        self.run_examples(KINDS + SCENES + CARS)
+
     def test_counts(self):
-        # They use the names that the examples ahead of them in the document have set.
         self.run_examples(KINDS + COUNTS)
 
 
