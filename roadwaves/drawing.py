@@ -7,7 +7,7 @@ begin, new ones go out, as the densities on both sides ask for.
 from roadwaves.lines import height_at, last_corner_up_to, leading, slope_between
 from roadwaves.rationals import ZERO, ascending_of, greatest, is_at_most, is_below, lesser, minus, over, plus, times
 from roadwaves.scene_parts import arrivals_line, start_line, tracks_of
-from roadwaves.waves import density_coming, flow_of_density, flow_past, waves_at_bar, waves_between
+from roadwaves.waves import density_coming, flow_past, waves_at_bar, waves_between
 
 
 class Path:
@@ -52,7 +52,7 @@ class Drawing:
         # When nobody waits ahead of the road any more, if all stays as it is; None if never.
         self.freed = None
         self.planned = planned_turns(self.starts, self.arrivals, self.tracks)
-        self.paths = first_paths(self.kind, beginning, self.starts)
+        self.paths = first_paths(beginning, self.starts)
         self.ever = []
         self.moments = []
         self.rows = []
@@ -102,7 +102,8 @@ class Drawing:
             path.end = self.now
         row = self.paths[:first] + made + self.paths[beyond:]
         for at in range(max(first - 1, 0), min(first + len(made), len(row) - 1)):
-            row[at].meeting = meeting_of(row[at], row[at + 1])
+            path = row[at]
+            path.meeting = meeting_of(path, row[at + 1])
         self.paths = row
         self.ever.extend(made)
         if place == ZERO:
@@ -190,13 +191,13 @@ def planned_turns(starts, arrivals, tracks):
     return found
 
 
-def first_paths(kind, beginning, starts):
+def first_paths(beginning, starts):
     """Paths that stand where the pieces of a beginning end, to be replaced at the moment 0."""
     densities = [None] + [density for _, density in beginning] + [None]
     found = []
     for at, (place, number) in enumerate(starts):
         wave = (ZERO, densities[at], densities[at + 1])
-        found.append(Path(place, ZERO, wave, number, flow_of_density(kind, densities[at])))
+        found.append(Path(place, ZERO, wave, number, ZERO))
     return found
 
 

@@ -1,9 +1,9 @@
 """Sections through the drawing of a scene: along a moment, along a place, and along what moves with one speed."""
 
 from roadwaves.counts import counts_through
-from roadwaves.lines import bends_of, leading
+from roadwaves.lines import bends_of, height_at, leading
 from roadwaves.rationals import ZERO, ascending_of, halfway, is_at_most, minus, over, plus, times
-from roadwaves.waves import flow_of_density, flow_past
+from roadwaves.waves import flow_past
 
 ONE = (1, 1)
 
@@ -54,7 +54,7 @@ def states_in(drawing, place):
         following = moments[at + 1] if at + 1 < len(moments) else None
         within = plus(moment, ONE) if following is None else halfway(moment, following)
         behind, ahead = drawing.sides_at(place, within)
-        rate = flow_of_density(drawing.kind, ahead if behind is None else behind)
+        rate = height_at(drawing.kind, ahead if behind is None else behind)
         if found and found[-1][2:] == (rate, behind, ahead):
             found[-1] = (found[-1][0], following, rate, behind, ahead)
         else:

@@ -1,7 +1,7 @@
 """Waves: what goes out from a place where two densities meet, with a bar that begins or stays there or without."""
 
 from roadwaves.lines import first_reach, height_at, slope_between
-from roadwaves.rationals import ZERO, greatest, is_at_most, is_below, lesser, minus, times
+from roadwaves.rationals import greatest, is_at_most, is_below, lesser, minus, times
 
 
 def waves_between(kind, left, right):
@@ -62,8 +62,3 @@ def density_coming(kind, flow):
 def is_jam(kind, density):
     """Whether a density is jammed; None, off the road, is not."""
     return density is not None and is_below(kind[1][0], density)
-
-
-def flow_of_density(kind, density):
-    """The flow at a density; 0 off the road."""
-    return ZERO if density is None else height_at(kind, density)

@@ -222,6 +222,8 @@ HALF, ONE, TWO, THREE, FOUR, FIVE, SIX = (1, 2), (1, 1), (2, 1), (3, 1), (4, 1),
 ROAD = ((ZERO, ZERO), (ONE, ONE), (THREE, ZERO))
 # A level top from 2 to 3, and a bend on either side.
 LEVEL = ((ZERO, ZERO), (ONE, TWO), (TWO, THREE), (THREE, THREE), (FOUR, TWO), ((9, 2), ZERO))
+# All speeds but the back one are above 0.
+LATE = ((ZERO, ZERO), (ONE, THREE), (TWO, (9, 2)), ((5, 2), (19, 4)), ((8, 3), ZERO))
 RED = (ONE, ONE, ZERO, TWO, ZERO)
 STOP = (TWO, ONE, ZERO, TWO, ZERO)
 EMPTY, COMING = ((TWO, ZERO),), (ZERO, ((FOUR, HALF),))
@@ -259,6 +261,13 @@ SOME_SCENES = [
     (LEVEL, FOUR, ((TWO, FOUR), (TWO, (9, 2))), (ZERO, ((FOUR, FOUR),)), ((THREE, ONE, ZERO, ONE, ONE),)),
     (LEVEL, SIX, ((SIX, ONE),), (ZERO, ((FOUR, TWO),)),
      ((THREE, ONE, ZERO, TWO, ZERO), (ONE, TWO, ZERO, ONE, ZERO), (FIVE, ZERO, ZERO, FIVE, ONE))),
+    # First fewer come than a bar lets past, then more: a place ahead of them, their own place, and a leader.
+    (ROAD, TWO, EMPTY, (ZERO, ((TWO, (1, 4)), (THREE, ONE))), ((ONE, ZERO, ZERO, (8, 1), HALF),)),
+    (ROAD, TWO, EMPTY, (ZERO, ((TWO, (1, 4)), (THREE, ONE))), ((ZERO, ZERO, ZERO, FIVE, HALF),)),
+    (LEVEL, FOUR, ((FOUR, ZERO),), (ZERO, ((ONE, HALF), (THREE, TWO))), ((ONE, ZERO, HALF, SIX, (5, 4)),)),
+    # As many come as go with a speed between.
+    (LEVEL, FOUR, ((FOUR, ZERO),), (ZERO, ((FOUR, (5, 2)), (FOUR, (11, 4)))), ()),
+    (LATE, FOUR, ((FOUR, TWO),), (ZERO, ((FIVE, FOUR), (FOUR, (14, 3)))), ((THREE, TWO, ZERO, FOUR, FOUR),)),
     # A bar that does not bite, and one that moves with a speed of the kind.
     (ROAD, FOUR, ((FOUR, HALF),), (ZERO, ((SIX, ONE),)), ((ONE, ZERO, ZERO, SIX, ONE), (TWO, ONE, ZERO, TWO, HALF))),
     (LEVEL, FOUR, ((FOUR, ONE),), (ZERO, ((TWO, TWO),)), ((ONE, ZERO, ONE, TWO, HALF), (ZERO, HALF, ONE, TWO, ZERO))),

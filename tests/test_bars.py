@@ -188,7 +188,7 @@ class NeverLater(unittest.TestCase):
         self.check(False, (STOP,), ((TWO, ONE, ZERO, little, ZERO),))
 
     def test_lots_that_lie_apart(self):
-        for other in (RED, (TWO, FOUR, ZERO, TWO, ZERO), (ZERO, ZERO, HALF, SIX, ZERO), (FOUR, ONE, ZERO, TWO, ZERO)):
+        for other in (RED, (TWO, FOUR, ZERO, TWO, ZERO), (TWO, (1000, 1), ZERO, TWO, ZERO), (ZERO, ZERO, HALF, SIX, ZERO), (FOUR, ONE, ZERO, TWO, ZERO)):
             self.check(False, (STOP,), (other,))
             self.check(False, (other,), (STOP,))
 
@@ -220,6 +220,12 @@ class NeverLater(unittest.TestCase):
             self.check(True, (bar,), ((place, ZERO, ZERO, SIX, (1, 4)),))
             self.check(False, (bar, RED), (bar,))
         self.check(False, ((ZERO, ONE, HALF, (8, 1), ZERO),), ((ZERO, ONE, HALF, FIVE, ZERO),))
+
+    def test_a_top_flow_above_the_last_density(self):
+        kind = ((ZERO, ZERO), (ONE, FIVE), (TWO, ZERO))
+        for place in (ZERO, TWO, FOUR):
+            self.check(False, ((place, ONE, ZERO, TWO, THREE),), (), kind)
+            self.check(False, ((place, ONE, ZERO, TWO, THREE),), ((place, ONE, ZERO, TWO, FOUR),), kind)
 
     def test_random_lots(self):
         source = random_source(5)

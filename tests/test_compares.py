@@ -138,6 +138,11 @@ class PartingScene(unittest.TestCase):
             self.check(LEVEL, STEEP, length)
             self.check(STEEP, LEVEL, length)
 
+    def test_waves_back_that_are_faster_than_any_car(self):
+        # Where they have come to the middle from the end of the road, both kinds tell the same.
+        steep = ((ZERO, ZERO), (TWO, ONE), ((9, 4), ZERO))
+        self.check(steep, ((ZERO, ZERO), (TWO, ONE), ((5, 2), ZERO)), FOUR)
+
     def test_none(self):
         self.assertIsNone(parting_scene(ROAD, ROAD, FOUR))
         self.assertIsNone(parting_scene(WIDE, ROAD, FOUR))

@@ -133,6 +133,8 @@ class Jam(unittest.TestCase):
         self.assertEqual(((ZERO, FOUR),), jammed_moments(jam, ZERO))
         self.assertEqual((), jammed_moments(LIGHT, ZERO))
         self.assertEqual(((ZERO, TWO),), jammed_places(jam, ZERO))
+        self.assertEqual([True, True, True, False], [is_jammed(jam, ZERO, moment) for moment in
+                                                     (ZERO, ONE, pair(4 - SMALL), FOUR)])
 
     def test_at_the_density_of_the_second_corner(self):
         # It is free; any more is jammed.

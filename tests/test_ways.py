@@ -53,7 +53,7 @@ class NumbersBySearch(unittest.TestCase):
     def test_scenes_by_hand(self):
         source = random_source(1)
         for scene in SOME_SCENES:
-            self.check(scene, points_of(scene, source, 4))
+            self.check(scene, points_of(scene, source, 6))
 
     def test_random_scenes(self):
         for bars in range(4):
