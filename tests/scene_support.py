@@ -200,6 +200,9 @@ def scene_parts(kind, length, bars):
 def random_scene(source, bars, pieces=3):
     """A scene with at most so many bars."""
     kind = random_kind(source, source.randint(2, 4))
+    if source.random() < 0.3:
+        # Densities below 1 alone.
+        kind = tuple((pair(number(density) / 12), pair(number(flow) / 4)) for density, flow in kind)
     length = random_fraction(source, 1, 6)
     return (kind, pair(length), random_beginning(source, kind, length, source.randint(1, pieces)),
             random_comings(source, kind, source.randint(0, pieces)), random_bars(source, kind, length, bars))
@@ -224,6 +227,8 @@ ROAD = ((ZERO, ZERO), (ONE, ONE), (THREE, ZERO))
 LEVEL = ((ZERO, ZERO), (ONE, TWO), (TWO, THREE), (THREE, THREE), (FOUR, TWO), ((9, 2), ZERO))
 # All speeds but the back one are above 0.
 LATE = ((ZERO, ZERO), (ONE, THREE), (TWO, (9, 2)), ((5, 2), (19, 4)), ((8, 3), ZERO))
+# All speeds but the free one are below 0.
+STEEP = ((ZERO, ZERO), (HALF, (5, 2)), (TWO, TWO), ((7, 2), ZERO))
 RED = (ONE, ONE, ZERO, TWO, ZERO)
 STOP = (TWO, ONE, ZERO, TWO, ZERO)
 EMPTY, COMING = ((TWO, ZERO),), (ZERO, ((FOUR, HALF),))
@@ -268,6 +273,8 @@ SOME_SCENES = [
     # As many come as go with a speed between.
     (LEVEL, FOUR, ((FOUR, ZERO),), (ZERO, ((FOUR, (5, 2)), (FOUR, (11, 4)))), ()),
     (LATE, FOUR, ((FOUR, TWO),), (ZERO, ((FIVE, FOUR), (FOUR, (14, 3)))), ((THREE, TWO, ZERO, FOUR, FOUR),)),
+    # Few cars on each length, and the greatest flow with very few.
+    (STEEP, FOUR, ((TWO, TWO), (TWO, (3, 4))), (ONE, ((TWO, TWO),)), ((THREE, ONE, ONE, ONE, HALF),)),
     # A bar that does not bite, and one that moves with a speed of the kind.
     (ROAD, FOUR, ((FOUR, HALF),), (ZERO, ((SIX, ONE),)), ((ONE, ZERO, ZERO, SIX, ONE), (TWO, ONE, ZERO, TWO, HALF))),
     (LEVEL, FOUR, ((FOUR, ONE),), (ZERO, ((TWO, TWO),)), ((ONE, ZERO, ONE, TWO, HALF), (ZERO, HALF, ONE, TWO, ZERO))),

@@ -1,6 +1,7 @@
 """Rules of the language of this program that can be seen with little effort, over all files of the package."""
 
 import ast
+import builtins
 import unittest
 from pathlib import Path
 
@@ -59,6 +60,32 @@ class Language(unittest.TestCase):
                         self.assertTrue(own or told <= LIBRARY.get(node.module, set()))
                 elif isinstance(node, ast.Import):
                     self.assertEqual(("__main__.py", ["sys"]), (name, [alias.name for alias in node.names]))
+
+    def test_all_that_is_imported_is_used(self):
+        for name, _, tree in sources():
+            told = {alias.name for node in tree.body if isinstance(node, ast.ImportFrom) for alias in node.names}
+            used = {node.id for node in ast.walk(tree) if isinstance(node, ast.Name)}
+            self.assertEqual(set(), told - used, name)
+
+    def test_names_with_one_meaning(self):
+        for name, _, tree in sources():
+            told = {alias.name for node in tree.body if isinstance(node, ast.ImportFrom) for alias in node.names}
+            told |= {node.name for node in tree.body if isinstance(node, ast.ClassDef)} | set(dir(builtins)) - {"_"}
+            for node in ast.walk(tree):
+                found = {node.id} if isinstance(node, ast.Name) and isinstance(node.ctx, ast.Store) else set()
+                found |= {node.arg} if isinstance(node, ast.arg) else set()
+                self.assertEqual(set(), found & told, name)
+
+    def test_no_file_imports_itself_through_others(self):
+        imported = {}
+        for name, _, tree in sources():
+            modules = [node.module for node in tree.body if isinstance(node, ast.ImportFrom)]
+            imported[name] = {module.split(".")[1] + ".py" for module in modules if module.startswith("roadwaves.")}
+        while any(imported.values()):
+            free = [name for name, found in imported.items() if found and not any(imported[one] for one in found)]
+            self.assertTrue(free, imported)
+            for name in free:
+                imported[name] = set()
 
     def test_no_floats_and_barred_statements(self):
         for name, _, tree in sources():
