@@ -117,7 +117,9 @@ def least_way(finder, place, moment):
     for other, told in found:
         if is_below(other, number):
             number, way = other, told
-    return number, way if way[-1][1:] == (place, moment) else way + (("step", place, moment),)
+    if way[-1][1:] != (place, moment):
+        way = way + (("step", place, moment),)
+    return number, way
 
 
 def starts_to(finder, place, moment):
