@@ -55,7 +55,12 @@ def moment_of_coming(scene, car):
     return first_reach(arrivals_line(scene[3]), car)
 
 
+def is_car(scene, value):
+    """Whether a value is a car of a scene."""
+    return is_fraction_within(value, start_line(scene[2])[-1][1], last_number(scene))
+
+
 def check_car(scene, value):
     """Raise the error that is told for a parameter that has to be a car of a scene."""
-    if not is_fraction_within(value, start_line(scene[2])[-1][1], last_number(scene)):
+    if not is_car(scene, value):
         raise InvalidNumber(value)

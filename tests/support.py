@@ -5,10 +5,10 @@ from inspect import signature
 from itertools import product
 from random import Random
 
-from roadwaves.errors import InvalidBars, InvalidBeginning, InvalidComings, InvalidRow
+from roadwaves.errors import InvalidBars, InvalidBeginning, InvalidComings, InvalidMarks, InvalidRow
 
 # These errors tell an index in the place of what was given; None for a list, which is no tuple.
-INDEXED = (InvalidBars, InvalidBeginning, InvalidComings, InvalidRow)
+INDEXED = (InvalidBars, InvalidBeginning, InvalidComings, InvalidMarks, InvalidRow)
 
 
 def nested(depth):

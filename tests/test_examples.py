@@ -67,6 +67,12 @@ CARS = """
 >>> evenly = ((0, 1), (-1, 1), (-2, 1), (-3, 1), (-4, 1))
 >>> [cells_fit(road, (1, 1), (2, 1)), cells_fit(road, (1, 1), (1, 1)), cell_step(road, (1, 1), (2, 1), evenly), true_step(road, (1, 1), (2, 1), evenly), cell_run(road, (1, 1), (2, 1), evenly, 2), unlike_row(road, (1, 1), (2, 1))]
 [True, False, ((0, 1), (-1, 1)), ((0, 1), (-1, 1)), (), None]
+>>> from roadwaves.waits import held_back, latest_comings, time_spent, waited_ahead
+>>> [latest_comings(street), time_spent(street), waited_ahead(street), held_back(street)]
+[(((0, 1), (0, 1)), ((3, 2), (0, 1)), ((3, 1), (3, 2)), ((6, 1), (3, 1))), (18, 1), (0, 1), (9, 8)]
+>>> from roadwaves.marks import marked_counts
+>>> marked_counts(street, (((0, 1), (1, 1)),), (2, 1))
+(((0, 1), (0, 1)), ((7, 2), (0, 1)), ((9, 2), (1, 1)))
 """
 
 COUNTS = """
@@ -80,6 +86,31 @@ COUNTS = """
 [(((0, 1), (0, 1)), ((2, 1), (1, 2)), ((4, 1), (2, 1))), (((0, 1), (0, 1)), ((2, 1), (0, 1)), ((3, 1), (1, 2)))]
 >>> [greatest_counts(flat, late), later_counts(even, one)]
 [(((0, 1), (1, 2)), ((3, 1), (1, 2)), ((4, 1), (1, 1))), (((0, 1), (0, 1)), ((1, 1), (0, 1)), ((5, 1), (1, 1)))]
+"""
+
+RIMS = """
+>>> from roadwaves.rims import barring_pair, can_be, inner_number, inner_start, is_rims, rims_of
+>>> inflow, shut_gate = ((zero, zero), (four, two)), ((zero, zero),)
+>>> through, shut = (road, two, empty, inflow, late, four), (road, two, empty, inflow, shut_gate, four)
+>>> early = (road, two, empty, inflow, ((zero, zero), (one, zero), (four, (3, 2))), four)
+>>> [is_rims(through), is_rims(through[:5]), can_be(through), can_be(shut), can_be(early), barring_pair(shut)]
+[True, False, True, True, False, None]
+>>> [inner_number(through, one, two), inner_start(through, one, two), inner_number(shut, one, two), inner_number(shut, two, four), inner_number(through, two, four)]
+[(1, 2), ((0, 1), (1, 1)), (1, 2), (0, 1), (1, 1)]
+>>> [rims_of(light, four) == shut, can_be(rims_of(light, (6, 1))), inner_number(rims_of(light, four), one, three)]
+[True, True, (1, 1)]
+"""
+
+BOOKS = """
+>>> from roadwaves.books import barring_weights, cars_range, clashing_sights, fitting_numbers, fitting_rims, is_fitting, needless_sights, number_range
+>>> book = (road, two, four, ((four, zero, one),), ((two, zero, zero), (two, zero, one)), ((two, zero, zero),))
+>>> seen, broad, few = ("out", two, four, one, one), ("in", zero, four, zero, four), ("in", zero, four, zero, one)
+>>> [is_fitting(book, (seen, broad), (half, zero, half, zero)), is_fitting(book, (seen, broad), ((1, 4), zero, half, zero)), number_range(book, (seen, broad), one, two)]
+[True, False, ((1, 2), (1, 1))]
+>>> [cars_range(book, (seen,), "in", zero, two), cars_range(book, (seen,), "out", two, three), needless_sights(book, (seen, broad)), needless_sights(book, (seen,))]
+[((1, 1), (2, 1)), ((1, 2), (1, 2)), (1,), ()]
+>>> [fitting_numbers(book, (seen, few)), clashing_sights(book, (seen, few)), clashing_sights(book, (seen, broad)), barring_weights(book, (seen, broad)), can_be(fitting_rims(book, (seen, broad)))]
+[None, (0, 1), (), None, True]
 """
 
 
@@ -99,11 +130,14 @@ class Examples(unittest.TestCase):
     def test_scenes_ways_and_pictures(self):
         self.run_examples(KINDS + SCENES)
 
-    def test_cars_jams_bars_kinds_compared_and_cells(self):
+    def test_cars_jams_bars_kinds_compared_cells_waits_and_marks(self):
         self.run_examples(KINDS + SCENES + CARS)
 
     def test_counts(self):
         self.run_examples(KINDS + COUNTS)
+
+    def test_rims_and_books(self):
+        self.run_examples(KINDS + SCENES + COUNTS + RIMS + BOOKS)
 
 
 if __name__ == "__main__":
