@@ -58,8 +58,7 @@ def densities_with(kind, flow):
 def toll(kind, distance, duration):
     """The toll of a step by a distance and a duration."""
     check_kind(kind)
-    if not is_fraction(distance):
-        raise InvalidFraction(distance)
+    check_fraction(distance)
     if not is_content(duration):
         raise InvalidContent(duration)
     if not is_step(kind, distance, duration):
@@ -112,6 +111,12 @@ def check_kind(value):
     """Raise the error that is told for a parameter that has to be a kind."""
     if not is_kind(value):
         raise InvalidKind(value)
+
+
+def check_fraction(value):
+    """Raise the error that is told for a parameter that has to be a fraction."""
+    if not is_fraction(value):
+        raise InvalidFraction(value)
 
 
 def check_corners(corners):

@@ -6,7 +6,7 @@ numbers over one scale, so that nothing has to be reduced on the way.
 
 from math import gcd, lcm
 
-from roadwaves.rationals import minus, plus, reduced, times
+from roadwaves.rationals import ZERO, minus, plus, reduced, times
 
 
 class Row:
@@ -143,3 +143,12 @@ def value_of(form, numbers):
 def form_less(form, other):
     """The first form less the second one."""
     return [minus(one, two) for one, two in zip(form[0], other[0])], minus(form[1], other[1])
+
+
+def forms_sum(forms, weights):
+    """The sum of forms, each as many times as a fraction tells."""
+    found, constant = [ZERO] * len(forms[0][0]), ZERO
+    for (slopes, level), weight in zip(forms, weights):
+        found = [plus(one, times(weight, slope)) for one, slope in zip(found, slopes)]
+        constant = plus(constant, times(weight, level))
+    return found, constant

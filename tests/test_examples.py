@@ -113,6 +113,20 @@ BOOKS = """
 [None, (0, 1), (), None, True]
 """
 
+CONSOLES = """
+>>> from roadwaves.consoles import Console
+>>> from roadwaves.workshops import Workshop
+>>> shop = Workshop()
+>>> console = Console(shop)
+>>> [console.say("put main: 0/1 0/1; 1/1 1/1; 3/1 0/1 | 2/1 | 2/1 0/1 | 0/1; 4/1 1/2 | 1/1 1/1 0/1 2/1 0/1"), shop.named("main") == light, console.say("names")]
+['done', True, 'main']
+>>> [console.say("number main: 1/1 4/1"), console.say("passing main: 1/2 1/1"), console.say("jams main: 3/1"), console.say("jams main: 6/1")]
+['1/1', '7/2', '3/5 1/1', 'none']
+>>> shop.wish(("out", "main", (7, 1)))
+>>> [len(shop), shop.wishes, console.say("undo"), console.say("drop main"), shop.names]
+[2, (('out', 'main', (7, 1)),), 'done', 'done', ()]
+"""
+
 
 class Examples(unittest.TestCase):
     def run_examples(self, text):
@@ -138,6 +152,9 @@ class Examples(unittest.TestCase):
 
     def test_rims_and_books(self):
         self.run_examples(KINDS + SCENES + COUNTS + RIMS + BOOKS)
+
+    def test_consoles_and_workshops(self):
+        self.run_examples(KINDS + SCENES + CONSOLES)
 
 
 if __name__ == "__main__":

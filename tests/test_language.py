@@ -14,6 +14,9 @@ LIBRARY = {
     "collections": {"defaultdict"},
     "__future__": {"annotations"},
 }
+BARRED_WORDS = {"type", "typing", "enum", "Enum", "Generic", "Protocol", "ABC", "namedtuple", "NamedTuple", "dataclass",
+                "compile", "dir", "eval", "exec", "exit", "globals", "help", "id", "locals", "os", "quit", "vars", "sys"}
+DOCUMENTED = (ast.Module, ast.ClassDef, ast.FunctionDef)
 BARRED = (ast.Global, ast.AsyncFunctionDef, ast.Await, ast.Div, ast.TryStar)
 
 
@@ -86,6 +89,42 @@ class Language(unittest.TestCase):
             self.assertTrue(free, imported)
             for name in free:
                 imported[name] = set()
+
+    def test_barred_words(self):
+        nowhere = {"register", "mro", "elements", "open", "input", "law", "version_info", "with_traceback", "add_note"}
+        for name, _, tree in sources():
+            for node in ast.walk(tree):
+                found = {getattr(node, field, None) for field in ("id", "arg", "attr", "name")}
+                self.assertEqual(set(), found & (nowhere | BARRED_WORDS), name)
+
+    def test_strings(self):
+        for name, _, tree in sources():
+            told = [node.body[0].value for node in ast.walk(tree) if isinstance(node, DOCUMENTED) and ast.get_docstring(node)]
+            for node in ast.walk(tree):
+                if isinstance(node, ast.Constant) and isinstance(node.value, str):
+                    self.assertNotIn("%", node.value, name)
+                    if node not in told:
+                        self.assertEqual(set(), set(node.value.split()) & BARRED_WORDS, name)
+
+    def test_exponents_are_small_literals(self):
+        for name, _, tree in sources():
+            for node in ast.walk(tree):
+                if isinstance(node, ast.BinOp) and isinstance(node.op, ast.Pow):
+                    self.assertIsInstance(node.right, ast.Constant, name)
+                    self.assertIn(node.right.value, range(65), name)
+
+    def test_sets_are_not_kept(self):
+        # A set stands behind `in`, beside `==` or directly in `len` or `sorted`.
+        for name, _, tree in sources():
+            for node in ast.walk(tree):
+                if isinstance(node, (ast.Assign, ast.Return)):
+                    value = node.value
+                    call = isinstance(value, ast.Call) and isinstance(value.func, ast.Name) and value.func.id == "set"
+                    self.assertFalse(call or isinstance(value, (ast.Set, ast.SetComp)), name)
+
+    def test_no_lists_are_sorted_in_place(self):
+        for name, text, _ in sources():
+            self.assertNotIn(".sort(", text, name)
 
     def test_no_floats_and_barred_statements(self):
         for name, _, tree in sources():

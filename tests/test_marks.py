@@ -9,7 +9,7 @@ from roadwaves.marks import marked_counts
 from roadwaves.pictures import counts_at
 from roadwaves.scenes import all_cars, start_number
 from roadwaves.ways import number_at
-from tests.scene_support import EMPTY, FOUR, HALF, LIGHT, ONE, RED, ROAD, SIX, STREET, THREE, TWO, ZERO, some_scenes
+from tests.scene_support import EMPTY, FOUR, HALF, LIGHT, ONE, RED, ROAD, STREET, THREE, TWO, ZERO, some_scenes
 from tests.support import BELOW_ZERO, WRONG, check_refused, check_refused_at, nested, number, pair, random_source
 
 FIRST, LAST = (-2, 1), THREE

@@ -10,7 +10,7 @@ from roadwaves.rims import barring_pair, can_be, inner_number, inner_start, is_r
 from roadwaves.ways import number_at
 from tests.rim_support import (EARLY, INFLOW, LATE, SHUT, THROUGH, are_barred, corners_of, cut_counts, is_barred,
                                is_on_rims, line_of, number_on_rims, random_rims, random_rims_point, settled_number)
-from tests.scene_support import (COMING, EMPTY, FIVE, FOUR, HALF, LIGHT, ONE, ROAD, SIX, STREET, THREE, TWO, ZERO,
+from tests.scene_support import (COMING, EMPTY, FIVE, FOUR, HALF, LEVEL, LIGHT, ONE, ROAD, SIX, STREET, THREE, TWO, ZERO,
                                  on_line, random_scene, some_scenes, toll_of)
 from tests.support import (BELOW_ZERO, WRONG, check_refused, nested, number, pair, raised_by, random_fraction,
                            random_source)
@@ -64,6 +64,10 @@ class IsRims(unittest.TestCase):
                     self.assertIs(False, is_rims(THROUGH[:at] + (value,) + THROUGH[at + 1:]))
         for value in WRONG + [nested(14), THROUGH[:5], THROUGH + (ONE,), list(THROUGH), (THROUGH,)]:
             self.assertIs(False, is_rims(value))
+
+    def test_no_time_at_all(self):
+        short = THROUGH[:3] + (((ZERO, ZERO),), ((ZERO, ZERO),))
+        self.assertEqual([True, False, False], [is_rims(short + (last,)) for last in ((1, 10 ** 30), ZERO, (-1, 1))])
 
     def test_forty_and_forty_one(self):
         for at in (3, 4):
@@ -175,6 +179,14 @@ class Inner(unittest.TestCase):
                                       (THROUGH, (TWO, FOUR), ONE), (rims_of(LIGHT, FOUR), (ONE, THREE), ONE)):
             self.assertEqual(expected, self.check(rims, point))
         self.assertEqual((ZERO, ONE), inner_start(THROUGH, ONE, TWO))
+
+    def test_from_a_corner_alone(self):
+        # Where cars spread out, those of a density of a corner of the kind all come from one point.
+        level = ((ZERO, ZERO), (FOUR, (12, 1)))
+        rims = (LEVEL, FOUR, ((FOUR, ZERO),), level, ((ZERO, ZERO),), FOUR)
+        self.assertEqual((ONE, (ZERO, ZERO)), (self.check(rims, (THREE, TWO)), inner_start(rims, THREE, TWO)))
+        spread = (LEVEL, (8, 1), ((TWO, THREE), (SIX, ZERO)), ((ZERO, ZERO),), ((ZERO, (-6, 1)),), FOUR)
+        self.assertEqual(((-5, 1), (TWO, ZERO)), (self.check(spread, (FIVE, TWO)), inner_start(spread, FIVE, TWO)))
 
     def test_on_the_rims(self):
         source = random_source(76)

@@ -10,7 +10,7 @@ from roadwaves.pictures import counts_at
 from roadwaves.scenes import all_cars, is_scene, start_number
 from roadwaves.waits import held_back, latest_comings, time_spent, waited_ahead
 from roadwaves.ways import number_at
-from tests.scene_support import (CROWD, EMPTY, FIVE, FOUR, HALF, LEADER, LIGHT, NARROW, ONE, RED, ROAD, SIX, SOME_SCENES,
+from tests.scene_support import (CROWD, EMPTY, FIVE, FOUR, LEADER, LIGHT, NARROW, ONE, RED, ROAD, SIX, SOME_SCENES,
                                  STREET, THREE, TWO, ZERO, arrivals_in, corners_in, is_on, on_line, points_through,
                                  some_scenes, toll_of, tracks_in)
 from tests.support import WRONG, check_refused, number, pair
