@@ -26,11 +26,11 @@ from roadwaves.weights import are_weights
 
 def accepts(claim, paper):
     """Whether a value, whatever it is, is a claim, and another one a paper that shows that it is so."""
-    if not isinstance(claim, tuple) or not claim or not isinstance(claim[0], str) or claim[0] not in CLAIMS:
+    if not isinstance(claim, tuple) or not claim or not isinstance(claim[0], str) or claim[0] not in PARTS:
         return False
-    many, shows = CLAIMS[claim[0]]
-    if len(claim) != many + 1:
+    if len(claim) != PARTS[claim[0]] + 1:
         return False
+    shows = DECIDING[claim[0]]
     try:
         return shows(claim[1:], paper)
     except RoadError:
@@ -184,24 +184,45 @@ def is_pair(paper):
     return isinstance(paper, tuple) and len(paper) == 2
 
 
-# How many parts each claim has, and what decides about a paper for it.
-CLAIMS = {
-    "at most": (4, shows_at_most),
-    "more": (4, shows_more),
-    "gone by": (4, shows_gone_by),
-    "not yet": (4, shows_not_yet),
-    "ever jammed": (1, shows_ever_jammed),
-    "never jammed": (1, shows_never_jammed),
-    "never later": (4, shows_never_later),
-    "later": (4, shows_later),
-    "never less": (2, shows_never_less),
-    "less": (2, shows_less),
-    "cells fit": (3, shows_cells_fit),
-    "cells unlike": (3, shows_cells_unlike),
-    "can be": (1, shows_can_be),
-    "can't be": (1, shows_can_not_be),
-    "fits": (2, shows_fits),
-    "clash": (2, shows_clash),
-    "sure": (6, shows_sure),
-    "not sure": (6, shows_not_sure),
+# How many parts each claim has behind its word.
+PARTS = {
+    "at most": 4,
+    "more": 4,
+    "gone by": 4,
+    "not yet": 4,
+    "ever jammed": 1,
+    "never jammed": 1,
+    "never later": 4,
+    "later": 4,
+    "never less": 2,
+    "less": 2,
+    "cells fit": 3,
+    "cells unlike": 3,
+    "can be": 1,
+    "can't be": 1,
+    "fits": 2,
+    "clash": 2,
+    "sure": 6,
+    "not sure": 6,
+}
+# What decides whether a paper shows that a claim with this word is so.
+DECIDING = {
+    "at most": shows_at_most,
+    "more": shows_more,
+    "gone by": shows_gone_by,
+    "not yet": shows_not_yet,
+    "ever jammed": shows_ever_jammed,
+    "never jammed": shows_never_jammed,
+    "never later": shows_never_later,
+    "later": shows_later,
+    "never less": shows_never_less,
+    "less": shows_less,
+    "cells fit": shows_cells_fit,
+    "cells unlike": shows_cells_unlike,
+    "can be": shows_can_be,
+    "can't be": shows_can_not_be,
+    "fits": shows_fits,
+    "clash": shows_clash,
+    "sure": shows_sure,
+    "not sure": shows_not_sure,
 }
